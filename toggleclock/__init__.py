@@ -1,0 +1,1 @@
+"""Toggles of orders, and turns that come back."""
