@@ -1,4 +1,4 @@
-"""The package's files held against the rules of the language part that can be seen in their trees."""
+"""The package's files held against those rules of LANGUAGE.md that are easily seen in their trees, not against all."""
 
 import ast
 import builtins
