@@ -1,8 +1,11 @@
 """What the document says, reckoned anew in the plainest way, and orders to try it on."""
 
-from itertools import combinations
+from itertools import combinations, permutations
+from random import Random
 
 from toggleclock.orders import Order
+
+FAR = 10 ** 59
 
 
 def number_pairs(many):
@@ -83,3 +86,103 @@ def part_order(many, pairs, kept):
 
 def is_whole(value):
     return type(value) is int
+
+
+def chain(many):
+    return Order(many, [(low, low + 1) for low in range(many - 1)])
+
+
+def all_things(many):
+    return 2 ** many - 1
+
+
+def behind_all_below(below, row):
+    """Whether no thing of the row stands ahead of one that is below it."""
+    return not any((row[later], row[at]) in below for at in range(len(row)) for later in range(at + 1, len(row)))
+
+
+def plain_lines(many, pairs):
+    """All lines, sorted, picked from all rows of the things; slow beyond eight things."""
+    below = pairs_below(many, pairs)
+    return [row for row in permutations(range(many)) if behind_all_below(below, row)]
+
+
+def line_by_wish(many, below, wish):
+    """The line that takes at each place the first of the wished row that may stand there."""
+    left, line = list(wish), ()
+    while left:
+        thing = next(one for one in left if not any((other, one) in below for other in left))
+        left.remove(thing)
+        line += (thing,)
+    return line
+
+
+def some_lines(many, pairs, most):
+    """Lines of the order, none twice: all of up to five things, else as many as there are tries, or fewer."""
+    if many <= 5:
+        return plain_lines(many, pairs)
+    below, chance = pairs_below(many, pairs), Random(many)
+    wishes = [list(range(many)), list(range(many))[::-1]] + [chance.sample(range(many), many) for _ in range(most - 2)]
+    return sorted({line_by_wish(many, below, wish) for wish in wishes})
+
+
+def split_count(many, pairs):
+    """How many lines there are, by the splitting that the document tells."""
+    below = pairs_below(many, pairs)
+    counts = {frozenset(): 1}
+
+    def count(kept):
+        if kept not in counts:
+            least = [thing for thing in kept if not any((other, thing) in below for other in kept)]
+            counts[kept] = sum(count(kept - {thing}) for thing in least)
+        return counts[kept]
+
+    return count(frozenset(range(many)))
+
+
+def part_covers(many, pairs, kept):
+    """The covers of the order of the kept things alone, each thing under its old number."""
+    below = {(low, high) for low, high in pairs_below(many, pairs) if low in kept and high in kept}
+    return {(low, high) for low, high in below
+            if not any((low, mid) in below and (mid, high) in below for mid in kept)}
+
+
+def by_number(numbers):
+    return tuple(sorted(numbers, key=lambda thing: numbers[thing]))
+
+
+def plain_slid(many, pairs, row):
+    """A row slid by the gap, as a line of the order of its things alone."""
+    covers = part_covers(many, pairs, row)
+    numbers = {thing: place for place, thing in enumerate(row)}
+    gap = row[0]
+    while [high for low, high in covers if low == gap]:
+        giver = min((high for low, high in covers if low == gap), key=lambda thing: numbers[thing])
+        numbers[gap] = numbers[giver]
+        gap = giver
+    numbers[gap] = len(row)
+    return by_number(numbers)
+
+
+def plain_slid_back(many, pairs, row):
+    covers = part_covers(many, pairs, row)
+    numbers = {thing: place for place, thing in enumerate(row)}
+    gap = row[-1]
+    while [low for low, high in covers if high == gap]:
+        giver = max((low for low, high in covers if high == gap), key=lambda thing: numbers[thing])
+        numbers[gap] = numbers[giver]
+        gap = giver
+    numbers[gap] = -1
+    return by_number(numbers)
+
+
+def plain_above(many, pairs, line):
+    for length in range(many, 1, -1):
+        line = plain_slid(many, pairs, line[:length]) + line[length:]
+    return line
+
+
+def plain_below(many, pairs, line):
+    for length in range(many, 1, -1):
+        line = line[:many - length] + plain_slid_back(many, pairs, line[many - length:])
+    return line

@@ -1,17 +1,13 @@
 import unittest
 
-from helper import all_parts, as_number, down_numbers, is_whole, pairs_below, part_order, sets_of_things, some_parts
+from helper import (
+    FAR, all_parts, as_number, chain, down_numbers, is_whole, pairs_below, part_order, sets_of_things, some_parts)
 from toggleclock.downsets import (
     brim, doors, downset_at, downsets, how_many, is_downset, place_of, set_of, things_of)
 from toggleclock.errors import NoDownset, NoPlace
 from toggleclock.orders import Order
 
 EXAMPLE = Order(4, [(0, 1), (0, 2), (1, 3), (2, 3)])
-FAR = 10 ** 59
-
-
-def chain(many):
-    return Order(many, [(low, low + 1) for low in range(many - 1)])
 
 
 class SetsTest(unittest.TestCase):

@@ -1,7 +1,7 @@
 import inspect
 import unittest
 
-from toggleclock import downsets, orders, texts
+from toggleclock import downsets, fractions, lines, orders, texts, toggles, turns
 
 FUNCTIONS = [
     (texts.order_text, ["order"]),
@@ -15,6 +15,21 @@ FUNCTIONS = [
     (downsets.how_many, ["order"]),
     (downsets.place_of, ["order", "bits"]),
     (downsets.downset_at, ["order", "place"]),
+    (lines.is_line, ["order", "line"]),
+    (lines.how_many_lines, ["order"]),
+    (lines.lines, ["order"]),
+    (lines.number_of, ["order", "line"]),
+    (lines.line_at, ["order", "number"]),
+    (toggles.toggled, ["order", "bits", "thing"]),
+    (toggles.walked, ["order", "bits", "word"]),
+    (toggles.walker, ["order", "word"]),
+    (toggles.swapped, ["order", "line", "place"]),
+    (toggles.led, ["order", "line", "word"]),
+    (toggles.leader, ["order", "word"]),
+    (fractions.mean, ["numbers"]),
+    (fractions.Fraction.same, ["self", "other"]),
+    (fractions.Fraction.shown, ["self"]),
+    (turns.Turn, ["order"]),
     (orders.Order, ["many", "pairs"]),
     (orders.Order.size, ["self"]),
     (orders.Order.below, ["self", "one", "other"]),
@@ -22,6 +37,8 @@ FUNCTIONS = [
     (orders.Order.just_below, ["self", "thing"]),
     (orders.Order.just_above, ["self", "thing"]),
 ]
+for kind in (turns.Great, turns.Slide, turns.Above, turns.Below):
+    FUNCTIONS += [(kind, ["order"]), (kind.done, ["self", "one"]), (kind.back, ["self", "one"]), (kind.word, ["self"])]
 
 
 class InterfaceTest(unittest.TestCase):
@@ -31,6 +48,18 @@ class InterfaceTest(unittest.TestCase):
                 parameters = inspect.signature(function).parameters
                 self.assertEqual(list(parameters), names)
                 self.assertTrue(all(one.default is inspect.Parameter.empty for one in parameters.values()))
+
+    def test_the_bottom_may_be_left_out(self):
+        parameters = inspect.signature(fractions.Fraction).parameters
+        self.assertEqual([(name, one.default) for name, one in parameters.items()],
+                         [("top", inspect.Parameter.empty), ("bottom", 1)])
+
+    def test_made_by_name(self):
+        order = orders.Order(many=2, pairs=[(0, 1)])
+        self.assertEqual(toggles.toggled(order=order, bits=0, thing=0), 1)
+        self.assertEqual(toggles.swapped(order=order, line=(0, 1), place=0), (0, 1))
+        self.assertEqual(turns.Great(order=order).done(one=0), 1)
+        self.assertEqual(fractions.Fraction(top=2, bottom=4).shown(), "1/2")
 
 
 if __name__ == "__main__":

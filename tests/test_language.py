@@ -25,6 +25,14 @@ BARRED_WORDS = re.compile(
     r"NamedTuple|TypedDict|TYPE_CHECKING|abstractmethod)\b|dataclass|overload|contextmanager")
 BARRED_NAMES = set("register mro elements open input version_info with_traceback add_note format format_map".split())
 
+# L23, L24 and L28 are held more narrowly than they stand: what the package has no need of is left out.
+WALKED_AT_ONCE = set("zip enumerate reversed range items keys values".split())
+TAKES_WALKED = set("list tuple dict sorted sum any all enumerate zip".split())
+
+
+def called(node):
+    return node.func.id if isinstance(node.func, ast.Name) else getattr(node.func, "attr", "")
+
 
 def package_files():
     return sorted(path for path in PACKAGE.rglob("*") if "__pycache__" not in path.parts)
@@ -170,6 +178,33 @@ class LanguageTest(unittest.TestCase):
             self.assertNotIn(name, taken, "L26")
         for name in kept - set("count index title find get join lower upper split strip copy add".split()):
             self.assertNotIn(name, taken | {"args"}, "L26")
+
+    def test_no_annotations(self):
+        for stem, node in self.nodes:
+            if isinstance(node, ast.FunctionDef):
+                told = [node.returns] + [one.annotation for one in node.args.args]
+                self.hold(not any(told), "L21", stem, node)
+
+    def test_walked_at_once(self):
+        parents = {inner: node for stem, node in self.nodes for inner in ast.iter_child_nodes(node)}
+        for stem, node in self.nodes:
+            if isinstance(node, ast.Call) and called(node) in WALKED_AT_ONCE:
+                around = parents[node]
+                looped = isinstance(around, (ast.For, ast.comprehension)) and around.iter is node
+                taken = isinstance(around, ast.Call) and called(around) in TAKES_WALKED and around.args[0] is node
+                self.hold(looped or taken, "L23", stem, node)
+
+    def test_no_sets_are_made(self):
+        for stem, node in self.nodes:
+            self.hold(not isinstance(node, ast.Set), "L24", stem, node)
+            if isinstance(node, ast.Call):
+                self.hold(called(node) not in ("set", "frozenset"), "L24", stem, node)
+
+    def test_methods_with_two_underscores(self):
+        for stem, node in self.nodes:
+            if isinstance(node, ast.FunctionDef) and node.name.startswith("__"):
+                self.hold(node.name == "__init__", "L28", stem, node)
+                self.hold(not any(isinstance(part, ast.Return) for part in ast.walk(node)), "L28", stem, node)
 
 
 if __name__ == "__main__":

@@ -1,11 +1,10 @@
 import unittest
 
-from helper import all_parts, covers_of, is_whole, pairs_below, some_parts
+from helper import FAR, all_parts, covers_of, is_whole, pairs_below, some_parts
 from toggleclock.errors import NoCount, NoPair, NoThing
 from toggleclock.orders import Order
 
 EXAMPLE = [(0, 1), (0, 2), (1, 3), (2, 3)]
-FAR = 10 ** 59
 
 
 class MadeTest(unittest.TestCase):
