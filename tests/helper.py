@@ -118,8 +118,8 @@ def line_by_wish(many, below, wish):
 
 
 def some_lines(many, pairs, most):
-    """Lines of the order, none twice: all of up to five things, else as many as there are tries, or fewer."""
-    if many <= 5:
+    """Lines of the order, none twice: all of up to six things, else as many as there are tries, or fewer."""
+    if many <= 6:
         return plain_lines(many, pairs)
     below, chance = pairs_below(many, pairs), Random(many)
     wishes = [list(range(many)), list(range(many))[::-1]] + [chance.sample(range(many), many) for _ in range(most - 2)]

@@ -2,8 +2,8 @@ import unittest
 from random import Random
 
 from helper import (
-    FAR, all_things, as_number, behind_all_below, chain, down_numbers, is_whole, pairs_below, plain_above, plain_below,
-    plain_lines, plain_slid, plain_slid_back, some_lines, some_parts)
+    FAR, all_parts, all_things, as_number, behind_all_below, chain, down_numbers, is_whole, pairs_below, plain_above,
+    plain_below, plain_lines, plain_slid, plain_slid_back, some_lines, some_parts)
 from toggleclock.errors import NoDownset, NoLine
 from toggleclock.lines import is_line
 from toggleclock.orders import Order
@@ -18,7 +18,7 @@ NO_LINES = [(1, 0, 2, 3), (0, 1, 3, 2), (0, 1, 2), (0, 1, 2, 3, 4), (0, 1, 1, 3)
 
 
 def lines_of_many_orders(most):
-    for many, pairs in some_parts():
+    for many, pairs in list(some_parts()) + list(all_parts(5))[::41]:
         for line in some_lines(many, pairs, most):
             yield many, pairs, line
 
