@@ -186,3 +186,63 @@ def plain_below(many, pairs, line):
     for length in range(many, 1, -1):
         line = line[:many - length] + plain_slid_back(many, pairs, line[many - length:])
     return line
+
+
+def in_things(bits):
+    return {thing for thing in range(9) if bits >> thing & 1}
+
+
+def brim_things(below, inside):
+    return {thing for thing in inside if not any((thing, other) in below for other in inside)}
+
+
+def plain_great(many, pairs, bits):
+    below, inside = pairs_below(many, pairs), in_things(bits)
+    doors = {thing for thing in range(many) if thing not in inside
+             and all(low in inside for low, high in below if high == thing)}
+    return as_number(doors | {low for low, high in below if high in doors})
+
+
+def plain_great_back(many, pairs, bits):
+    below, inside = pairs_below(many, pairs), in_things(bits)
+    left = brim_things(below, inside)
+    above = {high for low, high in below if low in left}
+    return as_number(set(range(many)) - left - above)
+
+
+def plain_rounds(turned, ones):
+    """All rounds of the list by a function that turns, each begun with what stands first in the list."""
+    left, found = list(ones), []
+    while left:
+        circle = [left[0]]
+        while turned(circle[-1]) != left[0]:
+            circle.append(turned(circle[-1]))
+        found.append(circle)
+        left = [one for one in left if one not in circle]
+    return found
+
+
+FIELDS = [(a, b) for a in range(1, 10) for b in range(1, 10) if a * b <= 9]
+NO_FIELDS = [(0, 0), (0, 1), (1, 0), (0, 9), (9, 0), (-1, 1), (1, -1), (-1, -1), (-3, -3), (-9, 1), (1, 10), (10, 1),
+             (2, 5), (5, 2), (4, 3), (3, 4), (9, 9), (FAR, 1), (1, FAR), (FAR, FAR), (-FAR, 1), (1, -FAR),
+             (-FAR, -FAR), (0, FAR), (FAR, 0)]
+STAIRS = [1, 2, 3]
+NO_STAIRS = [0, 4, 5, 9, 10, -1, -2, -3, -FAR, FAR]
+
+
+def parts_of_cells(cells):
+    return len(cells), [
+        (low, high) for high in range(len(cells)) for low in range(len(cells))
+        if low != high and cells[low][0] <= cells[high][0] and cells[low][1] <= cells[high][1]]
+
+
+def field_parts(a, b):
+    return parts_of_cells([(thing // b, thing % b) for thing in range(a * b)])
+
+
+def stairs_cells(k):
+    return [(row, column) for row in range(k) for column in range(k) if row + column < k]
+
+
+def stairs_parts(k):
+    return parts_of_cells(stairs_cells(k))

@@ -1,7 +1,7 @@
 import inspect
 import unittest
 
-from toggleclock import downsets, fractions, lines, orders, texts, toggles, turns
+from toggleclock import desk, downsets, fields, fractions, lines, orders, polys, rounds, texts, toggles, turns
 
 FUNCTIONS = [
     (texts.order_text, ["order"]),
@@ -29,6 +29,22 @@ FUNCTIONS = [
     (fractions.mean, ["numbers"]),
     (fractions.Fraction.same, ["self", "other"]),
     (fractions.Fraction.shown, ["self"]),
+    (rounds.round_of, ["turn", "one"]),
+    (rounds.all_rounds, ["turn", "ones"]),
+    (rounds.lengths, ["rounds"]),
+    (fields.field, ["a", "b"]),
+    (fields.stairs, ["k"]),
+    (fields.size_mean, ["a", "b"]),
+    (fields.brim_mean, ["a", "b"]),
+    (fields.flipped, ["k", "line"]),
+    (polys.by_size, ["order"]),
+    (polys.by_falls, ["order"]),
+    (polys.folded, ["poly", "m"]),
+    (polys.lengths_ahead, ["a", "b"]),
+    (polys.nested, ["order", "m"]),
+    (polys.chosen, ["x", "y"]),
+    (desk.Desk, []),
+    (desk.Desk.told, ["self", "row"]),
     (turns.Turn, ["order"]),
     (orders.Order, ["many", "pairs"]),
     (orders.Order.size, ["self"]),
@@ -60,6 +76,10 @@ class InterfaceTest(unittest.TestCase):
         self.assertEqual(toggles.swapped(order=order, line=(0, 1), place=0), (0, 1))
         self.assertEqual(turns.Great(order=order).done(one=0), 1)
         self.assertEqual(fractions.Fraction(top=2, bottom=4).shown(), "1/2")
+        self.assertEqual(rounds.all_rounds(turn=turns.Great(order), ones=[0, 1, 3]), [[0, 1, 3]])
+        self.assertEqual(fields.flipped(k=2, line=(0, 1, 2)), (0, 2, 1))
+        self.assertEqual(polys.folded(poly=[1, 2, 3], m=2), [4, 2])
+        self.assertEqual(desk.Desk().told(row="show"), "1")
 
 
 if __name__ == "__main__":

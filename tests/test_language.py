@@ -25,7 +25,7 @@ BARRED_WORDS = re.compile(
     r"NamedTuple|TypedDict|TYPE_CHECKING|abstractmethod)\b|dataclass|overload|contextmanager")
 BARRED_NAMES = set("register mro elements open input version_info with_traceback add_note format format_map".split())
 
-# L23, L24 and L28 are held more narrowly than they stand: what the package has no need of is left out.
+# L15, L18, L23, L24 and L28 are held more narrowly than they stand: what the package has no need of is left out.
 WALKED_AT_ONCE = set("zip enumerate reversed range items keys values".split())
 TAKES_WALKED = set("list tuple dict sorted sum any all enumerate zip".split())
 
@@ -178,6 +178,37 @@ class LanguageTest(unittest.TestCase):
             self.assertNotIn(name, taken, "L26")
         for name in kept - set("count index title find get join lower upper split strip copy add".split()):
             self.assertNotIn(name, taken | {"args"}, "L26")
+
+    def test_no_local_is_called_like_an_import_or_a_class(self):
+        for stem, tree in self.trees.items():
+            taken = {one.name for node in tree.body if isinstance(node, ast.ImportFrom) for one in node.names}
+            taken |= {node.name for node in tree.body if isinstance(node, ast.ClassDef)}
+            for function in [node for node in ast.walk(tree) if isinstance(node, ast.FunctionDef)]:
+                bound = [node.arg for node in ast.walk(function) if isinstance(node, ast.arg)]
+                bound += [node.id for node in ast.walk(function)
+                          if isinstance(node, ast.Name) and isinstance(node.ctx, ast.Store)]
+                self.hold(not taken & set(bound), "L15", stem, function)
+
+    def test_what_a_file_keeps_at_its_top_is_only_read(self):
+        parents = {inner: node for stem, node in self.nodes for inner in ast.iter_child_nodes(node)}
+        for stem, tree in self.trees.items():
+            kept = {node.targets[0].id for node in tree.body
+                    if isinstance(node, ast.Assign) and isinstance(node.value, (ast.List, ast.Dict))}
+            for node in ast.walk(tree):
+                if isinstance(node, ast.Name) and isinstance(node.ctx, ast.Load) and node.id in kept:
+                    around = parents[node]
+                    indexed = isinstance(around, ast.Subscript) and isinstance(around.ctx, ast.Load)
+                    asked = isinstance(around, ast.Compare) and isinstance(around.ops[0], ast.In)
+                    self.hold(indexed or asked, "L15", stem, node)
+
+    def test_classes_are_called_or_stand_under_one_another(self):
+        names = {node.name for stem, node in self.nodes if isinstance(node, ast.ClassDef)}
+        parents = {inner: node for stem, node in self.nodes for inner in ast.iter_child_nodes(node)}
+        for stem, node in self.nodes:
+            if isinstance(node, ast.Name) and node.id in names:
+                around = parents[node]
+                called_here = isinstance(around, ast.Call) and around.func is node
+                self.hold(called_here or isinstance(around, (ast.ClassDef, ast.ExceptHandler)), "L18", stem, node)
 
     def test_no_annotations(self):
         for stem, node in self.nodes:

@@ -2,8 +2,8 @@ import unittest
 from random import Random
 
 from helper import (
-    FAR, all_parts, all_things, as_number, behind_all_below, chain, down_numbers, is_whole, pairs_below, plain_above,
-    plain_below, plain_lines, plain_slid, plain_slid_back, some_lines, some_parts)
+    FAR, all_parts, all_things, behind_all_below, chain, down_numbers, is_whole, pairs_below, plain_above, plain_below,
+    plain_great, plain_great_back, plain_lines, plain_slid, plain_slid_back, some_lines, some_parts)
 from toggleclock.errors import NoDownset, NoLine
 from toggleclock.lines import is_line
 from toggleclock.orders import Order
@@ -21,24 +21,6 @@ def lines_of_many_orders(most):
     for many, pairs in list(some_parts()) + list(all_parts(5))[::41]:
         for line in some_lines(many, pairs, most):
             yield many, pairs, line
-
-
-def in_things(bits):
-    return {thing for thing in range(9) if bits >> thing & 1}
-
-
-def plain_great(many, pairs, bits):
-    below, inside = pairs_below(many, pairs), in_things(bits)
-    doors = {thing for thing in range(many) if thing not in inside
-             and all(low in inside for low, high in below if high == thing)}
-    return as_number(doors | {low for low, high in below if high in doors})
-
-
-def plain_great_back(many, pairs, bits):
-    below, inside = pairs_below(many, pairs), in_things(bits)
-    brim = {thing for thing in inside if not any((thing, other) in below for other in inside)}
-    above = {high for low, high in below if low in brim}
-    return as_number(set(range(many)) - brim - above)
 
 
 class TurnTest(unittest.TestCase):
